@@ -229,7 +229,9 @@ class WrongSigns(WordsTest):
         self.assert_invalid("ROW 1", 1)
 
     def test_digits_and_letters_of_other_alphabets(self):
-        for sign in ("\u0660", "\u0967", "\uff11", "\u00b2", "\u2460", "\u03b1", "\u0430", "\u00df", "\u0131", "\uff41"):
+        figures = ("\u0660", "\u0967", "\uff11", "\u00b2", "\u2460")
+        letters = ("\u03b1", "\u0430", "\u00df", "\u0131", "\uff41")
+        for sign in figures + letters:
             self.assert_invalid(sign, 1)
             self.assert_invalid("1" + sign, 2)
             self.assert_invalid("x" + sign, 2)
