@@ -17,6 +17,11 @@ MOST_LETTERS = 12
 
 def words(text):
     """Return the list of the pairs (kind, word) of a text."""
+    return [(kind, word) for kind, word, place in placed_words(text)]
+
+
+def placed_words(text):
+    """Return the list of the triples (kind, word, place) of a text, the places counted from 1."""
     check_text(text)
     found = []
     at = 0
@@ -25,7 +30,7 @@ def words(text):
             at += 1
         else:
             kind, word = word_at(text, at)
-            found.append((kind, word))
+            found.append((kind, word, at + 1))
             at += len(word)
     return found
 
@@ -72,13 +77,13 @@ def kind_of(word):
         return "mark"
     if word[0] in LETTERS and len(word) <= MOST_LETTERS:
         return "name"
-    if word[0] in FIGURES and is_number(word):
+    if is_number(word, MOST_FIGURES):
         return "number"
     return None
 
 
-def is_number(figures):
-    """Return whether a run of figures is a number as it may be written."""
-    if figures[0] == "0":
-        return figures == "0"
-    return len(figures) <= MOST_FIGURES
+def is_number(signs, most):
+    """Return whether signs are a number of at most so many figures without a leading 0."""
+    if not 1 <= len(signs) <= most or not all(sign in FIGURES for sign in signs):
+        return False
+    return signs[0] != "0" or signs == "0"
