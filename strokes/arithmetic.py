@@ -83,6 +83,36 @@ def truth(number):
     return int(number != 0)
 
 
+def negative(number):
+    """Return a number with the other sign."""
+    return -number
+
+
+def denial(number):
+    """Return 0 for each number unlike 0, else 1."""
+    return int(number == 0)
+
+
+# What orders make of two numbers and of one.
+OF_TWO = {
+    "add": add, "sub": subtract, "mul": multiply, "div": divide, "mod": remain,
+    "lt": is_less, "le": is_at_most, "eq": is_equal, "ne": is_unlike,
+}
+OF_ONE = {"neg": negative, "not": denial, "truth": truth}
+
+
+def made_of_two(word, first, second):
+    """Return what an order makes of two numbers."""
+    action = OF_TWO[word]
+    return action(first, second)
+
+
+def made_of_one(word, number):
+    """Return what an order makes of a number."""
+    action = OF_ONE[word]
+    return action(number)
+
+
 def cell(picture, row, column):
     """Return 1 if the cell in a row and a column, counted from 1, is black, else 0."""
     if not 1 <= row <= len(picture) or not 1 <= column <= len(picture[0]):

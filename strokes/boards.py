@@ -1,6 +1,6 @@
 """Boards, pictures, lines and strokes: rows are painted black, columns white."""
 
-from strokes.errors import BadLine, BadPicture, BadStrokes
+from strokes.errors import BadLine, BadNumber, BadPicture, BadStrokes, OtherBoard
 
 BLACK = "#"
 WHITE = "."
@@ -18,15 +18,19 @@ def paint(picture, line):
 def painted(picture, strokes):
     """Return the picture with a list of lines painted one behind another."""
     check_picture(picture)
-    if not is_strokes(len(picture), len(picture[0]), strokes):
-        raise BadStrokes()
-    for line in strokes:
+    check_strokes(len(picture), len(picture[0]), strokes)
+    return with_lines(picture, strokes)
+
+
+def with_lines(picture, lines):
+    """Return the picture with lines painted one behind another, all of which are known to be allowed."""
+    for line in lines:
         picture = with_line(picture, line)
     return picture
 
 
 def with_line(picture, line):
-    """Return the picture with a line painted, both of which are known to be allowed."""
+    """Return the picture with a line painted, both of which are known to be allowed; its cells may be any signs."""
     rows = len(picture)
     if line < rows:
         return picture[:line] + (BLACK * len(picture[0]),) + picture[line + 1:]
@@ -38,6 +42,25 @@ def check_picture(value):
     """Raise BadPicture if a value is no picture."""
     if not is_picture(value):
         raise BadPicture()
+
+
+def check_board(rows, columns):
+    """Raise BadNumber if values are no numbers of rows and of columns of a board."""
+    for value in (rows, columns):
+        if not is_integer(value) or not 1 <= value <= MOST_LINES:
+            raise BadNumber()
+
+
+def check_strokes(rows, columns, value):
+    """Raise BadStrokes if a value is no list of lines of a board."""
+    if not is_strokes(rows, columns, value):
+        raise BadStrokes()
+
+
+def check_like_boards(one, other):
+    """Raise OtherBoard if two pictures have boards of unlike sizes."""
+    if len(one) != len(other) or len(one[0]) != len(other[0]):
+        raise OtherBoard()
 
 
 def is_picture(value):

@@ -13,7 +13,7 @@ MOST_CALLS = 30
 def run(text, picture, ticks):
     """Return a run's (picture at the end, lines painted, numbers said, end)."""
     play = played(text, picture, ticks)
-    return play.picture, tuple(play.lines), tuple(play.spoken), play.end
+    return play.picture, tuple(play.lines), tuple(play.said), play.end
 
 
 def ticks_of(text, picture, ticks):
@@ -45,10 +45,10 @@ class Run:
         self.told = {name: (arguments, block) for name, arguments, block in definitions}
         self.picture = picture
         self.lines = []
-        self.spoken = []
+        self.said = []
         self.ticks = ticks
         self.names = {}
-        self.calls = 0
+        self.depth = 0
         self.end = ""
         # Statements and what stands behind blocks, the next one last. (Calls would go too deep for this.)
         self.waiting = []
@@ -132,7 +132,7 @@ def paint_column(play, statement):
 
 def say(play, statement):
     """Do a say statement."""
-    play.spoken.append(play.value(statement[1]))
+    play.said.append(play.value(statement[1]))
 
 
 def let(play, statement):
@@ -186,10 +186,10 @@ def go_to_next(play, task):
 def call(play, statement):
     """Do a do statement."""
     numbers = [play.value(expression) for expression in statement[2]]
-    if play.calls == MOST_CALLS:
+    if play.depth == MOST_CALLS:
         raise Ended("depth")
     arguments, block = play.told[statement[1]]
-    play.calls += 1
+    play.depth += 1
     play.waiting.append(("back", play.names))
     play.names = dict(zip(arguments, numbers))
     play.put(block)
@@ -197,7 +197,7 @@ def call(play, statement):
 
 def come_back(play, task):
     """Do what stands behind the block of a definition."""
-    play.calls -= 1
+    play.depth -= 1
     play.names = task[1]
 
 

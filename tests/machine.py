@@ -21,13 +21,19 @@ class Plain:
         self.lines = []
         self.said = []
         self.begun = []
+        self.count = 0
+        # The states at all tick orders, in order, told as point 11 does.
+        self.states = []
 
     def run(self):
         """Return (picture, lines, numbers said, end)."""
         try:
             while True:
                 word, number = self.value[self.at]
+                if word == "tick":
+                    self.states.append(repr((self.at, self.stack, self.slots, self.below, self.cells)))
                 self.at += 1
+                self.count += 1
                 getattr(self, "do_" + word)(number)
         except End as end:
             picture = tuple("".join("#" if cell else "." for cell in row) for row in self.cells)
@@ -171,6 +177,12 @@ class Plain:
     def do_done(self, number):
         assert self.stack == [] and self.below == []
         raise End("done")
+
+
+def played(text, picture, ticks):
+    """Return the run of a program's code, ended, and what it leads to."""
+    plain = Plain(code(text), picture, ticks)
+    return plain, plain.run()
 
 
 def executed(text, picture, ticks):

@@ -1,4 +1,8 @@
-"""What several tests use: texts with marked places, and programs made by dice that fall the same way each time."""
+"""What several tests use: boards, texts, and programs made by dice that fall the same way each time."""
+
+import itertools
+
+from strokes.errors import InvalidText, MayBeUnset, NotText, UnknownName, WrongCount
 
 LEVELS = (("or",), ("and",), ("<", "<=", "=", "!="), ("+", "-"), ("*", "/", "mod"))
 NAMES = ("a", "b", "c", "x")
@@ -28,6 +32,69 @@ def same_trees(first, second):
         elif left != right:
             return False
     return True
+
+
+def orders_of(lines):
+    """Return the code of a text of orders with commas or line ends between them."""
+    found = []
+    for line in lines.replace("\n", ",").split(","):
+        word, _, number = line.strip().partition(" ")
+        if word:
+            found.append((word, int(number or "0")))
+    return tuple(found)
+
+
+# Texts that are no good programs, with the errors that they raise and the fields of these.
+BAD_TEXTS = (
+    ("row 1 2", InvalidText, {"place": 7}), ("say x" + " " * 99996, InvalidText, {"place": 100001}),
+    ("say x do f()", UnknownName, {"name": "f"}), ("def f() { } do f(1)", WrongCount, {"name": "f"}),
+    ("say x", MayBeUnset, {"name": "x"}),
+)
+
+
+def assert_error(case, error, fields, function, *arguments):
+    """Assert that a call raises an error of exactly this class with exactly these fields."""
+    with case.subTest(function.__name__, arguments=str(arguments)[:80]):
+        with case.assertRaises(error) as caught:
+            function(*arguments)
+        case.assertIs(type(caught.exception), error)
+        case.assertEqual(vars(caught.exception), fields)
+
+
+def assert_text_errors(case, function, before=(), behind=()):
+    """Assert the errors of an argument that is the text of a good program, which come ahead of those behind it."""
+    for value in OTHERS:
+        if not isinstance(value, str):
+            assert_error(case, NotText, {}, function, *before, value, *behind)
+    for text, error, fields in BAD_TEXTS:
+        assert_error(case, error, fields, function, *before, text, *behind)
+
+
+def boards_of(cells):
+    """Return the list of the pairs (rows, columns) of boards of at most so many cells."""
+    return [(rows, cols) for rows in range(1, cells + 1) for cols in range(1, cells // rows + 1)]
+
+
+def pictures_of(rows, columns):
+    """Return the list of all pictures of a board, in ascending order."""
+    found = []
+    for signs in itertools.product("#.", repeat=rows * columns):
+        text = "".join(signs)
+        found.append(tuple(text[row * columns:(row + 1) * columns] for row in range(rows)))
+    return found
+
+
+def painted_plainly(picture, lines):
+    """Return a picture with lines painted, worked out cell by cell; its cells may be any signs."""
+    cells = [list(row) for row in picture]
+    for line in lines:
+        for row in range(len(cells)):
+            for column in range(len(cells[0])):
+                if line == row:
+                    cells[row][column] = "#"
+                if line == len(cells) + column:
+                    cells[row][column] = "."
+    return tuple("".join(row) for row in cells)
 
 
 class Dice:

@@ -5,7 +5,7 @@ import unittest
 import strokes.codes
 from strokes.codes import code, is_code, orders, read_code, write_code
 from strokes.errors import BadCode, InvalidText, MayBeUnset, NotText, UnknownName, WrongCount
-from tests.programs import OTHERS, made_programs, unmarked
+from tests.programs import OTHERS, made_programs, orders_of, unmarked
 
 FUNCTIONS = (code, orders, is_code, write_code, read_code)
 PLAIN = ("copy rows cols black add sub mul div mod lt le eq ne neg not truth "
@@ -14,16 +14,6 @@ COUNTED = "load store tick frame".split()
 LEADING = "jump zero some call".split()
 NUMBERED = ["push"] + COUNTED + LEADING
 MOST = 10 ** 9
-
-
-def orders_of(lines):
-    """Return the code of a text of orders with commas or line ends between them."""
-    found = []
-    for line in lines.replace("\n", ",").split(","):
-        word, _, number = line.strip().partition(" ")
-        if word:
-            found.append((word, int(number or "0")))
-    return tuple(found)
 
 
 class CodesTest(unittest.TestCase):
