@@ -63,6 +63,13 @@ def check_like_boards(one, other):
         raise OtherBoard()
 
 
+def check_start_and_goal(start, goal):
+    """Raise an error if values are no pictures of like boards."""
+    check_picture(start)
+    check_picture(goal)
+    check_like_boards(start, goal)
+
+
 def is_picture(value):
     """Return whether any value is a picture."""
     if not isinstance(value, tuple) or not 1 <= len(value) <= MOST_LINES:

@@ -1,6 +1,6 @@
 """Goals: pictures that are wished, what has to be painted to make them, and programs that do so."""
 
-from strokes.boards import check_like_boards, check_picture
+from strokes.boards import check_like_boards, check_picture, check_start_and_goal
 from strokes.errors import BadGoals, TooGreat
 from strokes.peels import is_coming, lines_to_paint, peeled
 from strokes.scribes import Scribe, written_first, written_goal, written_nearest
@@ -30,9 +30,7 @@ def fewest(start, goal):
 
 def shortest(start, goal):
     """Return the tuple of the lines that have to be painted, the first one first, None if no strokes do."""
-    check_picture(start)
-    check_picture(goal)
-    check_like_boards(start, goal)
+    check_start_and_goal(start, goal)
     found = peeled(goal)
     if not is_coming(start, goal, found):
         return None

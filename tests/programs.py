@@ -7,6 +7,11 @@ from strokes.errors import InvalidText, MayBeUnset, NotText, UnknownName, WrongC
 LEVELS = (("or",), ("and",), ("<", "<=", "=", "!="), ("+", "-"), ("*", "/", "mod"))
 NAMES = ("a", "b", "c", "x")
 OTHERS = (None, 0, 7, True, False, (), ("row 1",), [], ["row 1"], {}, {"row": 1})
+NO_PICTURES = (None, 5, True, "#", ["#"], (), ("",), ("#", "##"), ("#x",), (1,), ("#" * 21,), ("#",) * 21, (("#",),),
+               {}, {"#": 1}, ("#", None), (["#"],))
+# Numbers of rows or columns, and of ticks.
+NO_SIZES = (0, 21, -1, True, False, None, "2", (2,), [2], {})
+NO_TICKS = (-1, 20001, True, False, None, "5", (5,), [5], {})
 
 
 def unmarked(text):
@@ -81,6 +86,14 @@ def pictures_of(rows, columns):
     for signs in itertools.product("#.", repeat=rows * columns):
         text = "".join(signs)
         found.append(tuple(text[row * columns:(row + 1) * columns] for row in range(rows)))
+    return found
+
+
+def lists_without_repeats(rows, columns):
+    """Return the list of all lists of lines of a board in which no line stands twice."""
+    found = []
+    for length in range(rows + columns + 1):
+        found.extend(list(lines) for lines in itertools.permutations(range(rows + columns), length))
     return found
 
 

@@ -14,18 +14,16 @@ from strokes.errors import (
 )
 from strokes.runs import run
 from tests.programs import (
-    OTHERS, Dice, assert_error, assert_text_errors, boards_of, made_programs, painted_plainly, pictures_of,
+    NO_PICTURES, NO_SIZES, NO_TICKS, OTHERS, Dice, assert_error, assert_text_errors, boards_of,
+    lists_without_repeats, made_programs, painted_plainly, pictures_of,
 )
 
 FUNCTIONS = (act, alike, always, brings, effect_for, effect_of, hides, is_effect, layers, normal, product, program_of,
              same_table, shortest_lists, table)
-NO_SIZES = (0, 21, -1, True, False, None, "2", (2,), [2], {})
 NO_STROKES = (None, 5, "0", (), (0,), [4], [-1], [0, 4], [True], [0, None], ["0"], [[0]], {0: 1})
 NO_EFFECTS = (None, 5, "0", [], [0], (4,), (-1,), (True,), (0, None), ("0",), ((0,),), {}, {0: 1},
               # On a board of two rows and two columns: not ascending, told twice, hidden.
               (1, 0), (3, 2), (0, 0), (0, 2, 0), (0, 2, 3), (2, 0, 1), (2, 3, 0, 1), (0, 3, 2), (0, 1, 2, 3))
-NO_PICTURES = (None, 5, "#", ["#"], (), ("",), ("#", "##"), ("#x",), (1,), ("#" * 21,), ("#",) * 21, (("#",),))
-NO_TICKS = (-1, 20001, True, False, None, "5", (5,), [5], {})
 
 
 def plain_table(rows, columns, strokes):
@@ -40,17 +38,10 @@ def lists_of(rows, columns, most):
     return found
 
 
-def orders_of_all(rows, columns):
-    """Return the list of all lists in which no line stands twice."""
-    found = []
-    for length in range(rows + columns + 1):
-        found.extend(list(lines) for lines in itertools.permutations(range(rows + columns), length))
-    return found
-
-
 def effects_of(rows, columns):
     """Return a dict of all effects and of the tables that they have."""
-    return {normal(rows, columns, lines): plain_table(rows, columns, lines) for lines in orders_of_all(rows, columns)}
+    return {normal(rows, columns, lines): plain_table(rows, columns, lines)
+            for lines in lists_without_repeats(rows, columns)}
 
 
 class EffectsTest(unittest.TestCase):
@@ -392,7 +383,7 @@ class Lists(EffectsTest):
     def test_all_shortest_lists_of_small_boards(self):
         for rows, columns in boards_of(4) + [(2, 3), (3, 2)]:
             by_table = {}
-            for lines in orders_of_all(rows, columns):
+            for lines in lists_without_repeats(rows, columns):
                 by_table.setdefault(plain_table(rows, columns, lines), []).append(lines)
             for told, lists in by_table.items():
                 least = min(len(lines) for lines in lists)

@@ -12,11 +12,9 @@ from strokes.goals import (
 )
 from strokes.machines import execute
 from strokes.runs import run, ticks_of
-from tests.programs import Dice, assert_error, boards_of, painted_plainly, pictures_of
+from tests.programs import NO_PICTURES, Dice, assert_error, boards_of, painted_plainly, pictures_of
 
 FUNCTIONS = (layers, comes, fewest, shortest, program_for, program_for_first, program_for_nearest)
-NO_PICTURES = (None, 5, True, "#", ["#"], (), ("",), ("#", "##"), ("#x",), (1,), ("#" * 21,), ("#",) * 21, (("#",),),
-               {}, {"#": 1}, ("#", None), (["#"],))
 NINE = (("#" * 9,), ("#",) * 9, ("." * 9,) * 9, ("#" * 20,) * 20)
 
 

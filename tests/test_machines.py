@@ -8,12 +8,12 @@ from strokes.errors import BadCode, BadNumber, BadPicture
 from strokes.machines import execute, orders_done, round_of, statements_run
 from strokes.runs import run, ticks_of
 from tests.machine import played
-from tests.programs import OTHERS, assert_error, assert_text_errors, made_programs, orders_of
+from tests.programs import (
+    NO_PICTURES, NO_TICKS, OTHERS, assert_error, assert_text_errors, made_programs, orders_of,
+)
 
 FUNCTIONS = (execute, orders_done, round_of, statements_run)
 SMALL = ("#.", "..", ".#")
-NO_PICTURES = (None, 5, "#", ["#"], (), ("",), ("#", "##"), ("#x",), (1,), ("#" * 21,), ("#",) * 21, (("#",),))
-NO_TICKS = (-1, 20001, True, False, None, "5", (5,), [5], {})
 MOST = 10 ** 9
 CODE = (("frame", 0), ("tick", 0), ("push", 2), ("col", 0), ("done", 0))
 
