@@ -183,13 +183,14 @@ class Errors(EffectsTest):
         self.assertEqual(effect_of("let blacker = 1 row blacker", 2, 2, 9), (0,))
 
     def test_other_ends(self):
-        cases = (("row 7", "range"), ("while 1 { }", "limit"), ("row 1 / 0", "divide"), ("def f() { do f() } do f()",
-                 "depth"), ("say 999999 * 999999", "number"))
+        cases = (("row 7", "range"), ("while 1 { }", "limit"), ("row 1 / 0", "divide"),
+                 ("def f() { do f() } do f()", "depth"), ("say 999999 * 999999", "number"))
         for text, end in cases:
             assert_error(self, NotDone, {"end": end}, effect_of, text, 2, 2, 100)
             assert_error(self, NotDone, {"end": end}, alike, text, "row 1", 2, 2, 100)
             assert_error(self, NotDone, {"end": end}, alike, "row 1", text, 2, 2, 100)
-            for other, behind in cases:
+            for other, _ in cases:
+                # The first text's end is told.
                 assert_error(self, NotDone, {"end": end}, alike, text, other, 2, 2, 100)
         assert_error(self, NotDone, {"end": "limit"}, effect_of, "row 1 row 2", 2, 2, 1)
         self.assertEqual(effect_of("row 1 row 2", 2, 2, 2), (0, 1))

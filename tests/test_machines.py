@@ -443,9 +443,9 @@ class Rounds(MachinesTest):
 
     def test_against_all_states_of_a_plain_machine(self):
         found = 0
-        for start, (tree, text) in enumerate(made_programs(300)):
+        for tree, text in made_programs(300):
             for ticks in (0, 5, 40, 300):
-                plain, answer = played(text, SMALL, ticks)
+                plain = played(text, SMALL, ticks)[0]
                 expected = None
                 seen = {}
                 for used, state in enumerate(plain.states):
@@ -501,7 +501,7 @@ class StatementsRun(MachinesTest):
     def test_against_a_plain_machine(self):
         for tree, text in made_programs(300):
             for ticks in (0, 3, 25, 500):
-                plain, answer = played(text, SMALL, ticks)
+                plain = played(text, SMALL, ticks)[0]
                 self.assert_begun(text, sorted(set(plain.begun)), ticks=ticks)
                 self.assertLessEqual(len(set(plain.begun)), ticks_of(text, SMALL, ticks))
 

@@ -174,18 +174,11 @@ class AllEffects(MonoidTest):
                 self.assertEqual(effect_number(rows, columns, effect), place)
 
     def test_the_last_effect(self):
-        for rows, columns in ((2, 3), (3, 2), (4, 4), (20, 20)):
-            # No effect comes behind it: columns and rows by turns, the greatest first, as long as none is hidden.
-            last = []
-            for at in range(max(rows, columns)):
-                if at < columns:
-                    last.append(rows + columns - 1 - at)
-                if at < rows - 1:
-                    last.append(rows - 1 - at)
-            answer = effect_at(rows, columns, count_effects(rows, columns) - 1)
-            self.assertIs(is_effect(rows, columns, answer), True)
-            if rows == columns:
-                self.assertEqual(answer, tuple(last))
+        # Columns and rows by turns, the greatest first, but for the row that would hide the first column.
+        for size in (2, 3, 4, 20):
+            last = [line for at in range(1, size + 1) for line in (2 * size - at, size - at)][:-1]
+            self.assertEqual(effect_at(size, size, count_effects(size, size) - 1), tuple(last))
+            self.assertEqual(effect_number(size, size, tuple(last)), count_effects(size, size) - 1)
 
     def test_made_effects_of_great_boards(self):
         dice = Dice(9)

@@ -462,7 +462,7 @@ class Codes(ShorterTest):
         self.assertGreater(changed, 1000)
 
     def test_programs(self):
-        for start, (tree, text) in enumerate(made_programs(400)):
+        for tree, text in made_programs(400):
             value = code(text)
             answer = short_code(text)
             with self.subTest(text):

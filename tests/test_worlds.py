@@ -140,12 +140,15 @@ class Errors(WorldsTest):
         text = "if black(1, 1) { row 1 } say black(rows, cols)"
         for rows, columns in GREATEST:
             cells = rows * columns
-            self.assertEqual(sayings(text, rows, columns, 9), (((0,), 2 ** (cells - 1)), ((1,), 2 ** (cells - 1)))
-                             if rows > 1 else (((0,), 2 ** (cells - 2)), ((1,), 2 ** cells - 2 ** (cells - 2))))
+            # In one row the last cell is made black with the first one.
+            white = 2 ** (cells - 1) if rows > 1 else 2 ** (cells - 2)
+            self.assertEqual(sayings(text, rows, columns, 9), (((0,), white), ((1,), 2 ** cells - white)))
             self.assertEqual(sum(many for _, _, many in ends(text, rows, columns, 9)), 2 ** cells)
             self.assertEqual(most_strokes(text, rows, columns, 9), (1, ("#" * columns,) * rows))
             self.assertEqual(never_begun(text, rows, columns, 9), [])
-            self.assertEqual(parting(text, "", rows, columns, 9)[0][0] if columns > 1 else "#", "#")
+            # In one column the first cell stands alone in its row.
+            least = ("#" * (columns - 1) + ".",) + ("#" * columns,) * (rows - 1) if columns > 1 else None
+            self.assertEqual(parting(text, "", rows, columns, 9), least)
             goal = ("#" * columns,) * rows
             self.assertIsNone(always_makes(" ".join(f"row {row + 1}" for row in range(rows)), goal, 9))
             self.assertEqual(makes_best("", goal, 9), ("#" * columns,) * (rows - 1) + ("#" * (columns - 1) + ".",))
